@@ -1,0 +1,1 @@
+"""Onechoice: voters that settle on one wish, whatever is lost."""
