@@ -1,6 +1,7 @@
 import itertools
 import unittest
 
+from onechoice.errors import NoLetter
 from onechoice.letters import Pile, ask, prepare, promise, vote
 
 WISHES = (-10**40, -2, -1, 0, 1, 7, 10**40)
@@ -106,6 +107,31 @@ class Piles(unittest.TestCase):
         other = pile_of((prepare(2),))
         self.assertEqual(one.letters(), (prepare(1),))
         self.assertEqual(other.letters(), (prepare(2),))
+
+    def test_letter_at(self):
+        row = (prepare(2), ask(2, 5), prepare(2), prepare(1))
+        pile = pile_of(row)
+        self.assertEqual([pile.letter_at(k) for k in range(3)], [prepare(2), ask(2, 5), prepare(1)])
+
+    def test_no_letter_at(self):
+        for k in (-10**40, -4, -3, -1, 3, 4, 10**40):
+            with self.assertRaises(NoLetter):
+                pile_of((prepare(2), ask(2, 5), prepare(1))).letter_at(k)
+        for k in (-1, 0, 1):
+            with self.assertRaises(NoLetter):
+                Pile().letter_at(k)
+
+    def test_letters_of_one_kind_and_ballot(self):
+        pile = pile_of((promise(3, 2, None), promise(2, 2, None), ask(3, 1), promise(3, 0, (2, 1)), vote(3, 0, 1)))
+        self.assertEqual(pile.letters_of("promise", 3), [promise(3, 2, None), promise(3, 0, (2, 1))])
+        self.assertEqual(pile.letters_of("ask", 3), [ask(3, 1)])
+        self.assertEqual(pile.letters_of("ask", 2), [])
+
+    def test_beyond_all_ballots(self):
+        self.assertEqual(Pile().beyond(), 0)
+        self.assertEqual(pile_of((prepare(0),)).beyond(), 1)
+        self.assertEqual(pile_of((prepare(5), prepare(9), prepare(3))).beyond(), 10)
+        self.assertEqual(pile_of((prepare(5), prepare(10**40))).beyond(), 10**40 + 1)
 
 
 if __name__ == "__main__":
